@@ -302,7 +302,7 @@ func TestDeepOnes(t *testing.T) {
 		for _, f := range arounds() {
 			for _, g := range arounds() {
 				for _, h := range arounds() {
-					if m := h(g(f(c.m))); m.N <= 8 {
+					if m := h(g(f(c.m))); m.N <= 7 {
 						likeTable(t, m, &seen)
 					}
 				}
